@@ -2,8 +2,6 @@
 
 
 class Lot:
-    """Doses of an article that are good from the day they come up to their last day."""
-
     def __init__(self, number, article, comes, last, doses):
         self.number = number
         self.article = article
@@ -14,8 +12,6 @@ class Lot:
 
 
 class Demand:
-    """Doses of an article that are asked for on a day."""
-
     def __init__(self, number, article, day, doses):
         self.number = number
         self.article = article
@@ -23,9 +19,9 @@ class Demand:
         self.doses = doses
 
 
+# What one demand gets and lacks in the plan. What is taken is told, here and below, as pairs of a lot and how many
+# doses, because whoever looks at the plan needs the lots' days too.
 class Share:
-    """What a demand gets in the plan, as pairs of a lot and how many doses, and what it lacks."""
-
     def __init__(self, demand, taken):
         self.demand = demand
         self.taken = taken
@@ -59,8 +55,8 @@ def what_is_left(lots):
     return left
 
 
+# What is left stands beside the lots, by their numbers, because a plan may have given away some of it already.
 def first_expired_first(lots, left, day, doses):
-    """From which lots, and how many of each, so many doses come on a day; left is told by lots' numbers."""
     taken = []
     wanting = doses
     for lot in sorted(lots, key=expiry):
@@ -72,7 +68,6 @@ def first_expired_first(lots, left, day, doses):
 
 
 def plan_shares(lots, demands):
-    """The shares of one article's demands, in the order in which they are seen to."""
     # The plan takes nothing really, so it draws on a copy of what is left.
     left = what_is_left(lots)
     shares = []
@@ -93,12 +88,10 @@ def doses_lacking(shares):
 
 
 def draws_on(share, days):
-    """Whether a demand gets something of a lot that is good on one of the days."""
     return any([is_good_on_one(lot, days) for lot, doses in share.taken])
 
 
 def days_asking_too_much(shares):
-    """The days that together ask too much, rising."""
     days = {}
     for share in shares:
         if share.lacks > 0:

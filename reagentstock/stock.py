@@ -21,8 +21,6 @@ WHOLE_NUMBERS = (0, 4, 3, 1, 1, 1, 1, 3, 2, 1, 2, 1, 1, 1, 1, 2, 0)
 
 
 class Stock:
-    """What is known of a laboratory's reagents."""
-
     def __init__(self):
         self.begin()
 
@@ -38,8 +36,8 @@ class Stock:
         self.lots.append(Lot(number, article, comes, last, doses))
         return number
 
+    # It is not in the stock yet, so that a demand can be tried without being told.
     def next_demand(self, article, day, doses):
-        """The demand that would be told next; it is not in the stock yet."""
         return Demand(self.demands_told + 1, article, day, doses)
 
     def add_demand(self, demand):
@@ -59,7 +57,6 @@ class Stock:
         return doses_lacking(self.shares_of(article))
 
     def lack_more_with(self, demand):
-        """How much more the demand's article lacks if the demand is told too."""
         article = demand.article
         shares = plan_shares(self.lots_of(article), self.demands_of(article) + [demand])
         return doses_lacking(shares) - self.lack_of(article)
@@ -81,8 +78,7 @@ def is_lot(stock, number):
     return 0 <= number < len(stock.lots)
 
 
-def is_asking(given):
-    """Whether these are an article, a day and doses, each within its range."""
+def is_article_day_doses(given):
     return is_article(given[0]) and is_day(given[1]) and is_doses(given[2])
 
 
@@ -106,7 +102,7 @@ def answer_lot(stock, given):
 
 
 def answer_demand(stock, given):
-    if not is_asking(given):
+    if not is_article_day_doses(given):
         return [OUT_OF_RANGE]
     if len(stock.demands) == MOST_DEMANDS:
         return [NO_ROOM]
@@ -160,7 +156,7 @@ def answer_tight(stock, given):
 
 
 def answer_bears(stock, given):
-    if not is_asking(given):
+    if not is_article_day_doses(given):
         return [OUT_OF_RANGE]
     if given[1] < stock.today:
         return [BEFORE_TODAY]
@@ -194,8 +190,8 @@ ANSWERING = (
 )
 
 
+# Each call is told as its place, its whole numbers and its row: all calls alike, though only vials has a row.
 def cut_calls(line):
-    """The calls of a line, each as its place, its whole numbers and its row."""
     calls = []
     at = 0
     while at < len(line):
@@ -220,7 +216,6 @@ def answer_call(stock, place, given):
 
 
 def answers(calls):
-    """For each call of the line, in order, how many numbers are answered, then these."""
     stock = Stock()
     numbers = []
     for place, given, row in cut_calls(calls):

@@ -86,6 +86,8 @@ class Parts(unittest.TestCase):
                 if isinstance(node, ast.Assign):
                     self.assertEqual(len(node.targets), 1, place)
                     self.assertNotIsInstance(node.targets[0], (ast.Tuple, ast.List), place)
+                if isinstance(node, ast.Expr) and node not in tree.body[:1]:
+                    self.assertIsInstance(node.value, ast.Call, place)
                 if isinstance(node, (ast.For, ast.While)):
                     self.assertEqual(node.orelse, [], place)
                 if isinstance(node, ast.ListComp):
@@ -112,7 +114,7 @@ class Parts(unittest.TestCase):
                     self.assertTrue(is_plain(node.value, functions), place)
                     bound.append(node.targets[0].id)
                 else:
-                    self.assertEqual(node.lineno, 1, place)
+                    self.assertTrue(node.lineno == 1 and isinstance(node, ast.Expr), place)
             self.assertEqual(len(bound), len(set(bound)), path.name)
 
     def test_functions(self):
@@ -134,7 +136,8 @@ class Parts(unittest.TestCase):
                 name = name or node.name
                 self.assertTrue(not name.startswith("_") or name in OWN_METHODS, place)
                 self.assertNotIn(name, OUT_OF_USE, place)
-                if isinstance(node, ast.arg) or isinstance(getattr(node, "ctx", None), ast.Store) and hasattr(node, "id"):
+                stored = isinstance(node, ast.Name) and isinstance(node.ctx, ast.Store)
+                if stored or isinstance(node, ast.arg):
                     self.assertNotIn(name, top, place)
                     self.assertFalse(hasattr(builtins, name), place)
                 elif isinstance(node, ast.Name) and hasattr(builtins, name):
