@@ -67,14 +67,18 @@ def first_expired_first(lots, left, day, doses):
     return taken
 
 
-def plan_shares(lots, demands):
+def take_off(left, taken):
+    for lot, doses in taken:
+        left[lot.number] -= doses
+
+
+def plan_shares(lots, left, demands):
     # The plan takes nothing really, so it draws on a copy of what is left.
-    left = what_is_left(lots)
+    rest = dict(left)
     shares = []
     for demand in sorted(demands, key=turn):
-        taken = first_expired_first(lots, left, demand.day, demand.doses)
-        for lot, doses in taken:
-            left[lot.number] -= doses
+        taken = first_expired_first(lots, rest, demand.day, demand.doses)
+        take_off(rest, taken)
         shares.append(Share(demand, taken))
     return shares
 

@@ -34,7 +34,10 @@ def split(numbers):
 
 def ask(calls):
     """The answer of each call of a line."""
-    parts = split(answers(line(calls)))
+    given = line(calls)
+    if len(calls) > 300 or len(given) > 16000:
+        raise ValueError("no line is so long")
+    parts = split(answers(given))
     if len(parts) != len(calls):
         raise ValueError(f"{len(calls)} calls, but {len(parts)} answers")
     return parts
@@ -44,9 +47,27 @@ def last_answer(calls):
     return ask(calls)[-1]
 
 
+def vials(m, life, needs):
+    """A call of vials; its row has its length ahead."""
+    return ("vials", m, life, len(needs), *needs)
+
+
 def view(lots):
     """Calls that tell all there is to see of a stock with so many lots, and change nothing."""
-    calls = [("told", number) for number in range(lots + 1)]
+    calls = [("counts",)]
+    for number in range(lots + 1):
+        calls += [("told", number), ("used_from", number)]
     for article in range(1, 9):
-        calls += [("plan", article), ("tight", article), ("spare", article, 0), ("spare", article, 5)]
+        calls += [("plan", article), ("tight", article), ("waste", article)]
+        calls += [("spare", article, day) for day in (0, 5, 400)]
     return calls
+
+
+def lacking(told):
+    """What an article lacks: the sum over the demands that plan tells."""
+    lacks = 0
+    at = 2
+    for _ in range(told[0]):
+        lacks += told[at + 1]
+        at += 3 + 2 * told[at + 2]
+    return lacks

@@ -97,20 +97,59 @@ def sets_of_days(days):
         yield from combinations(days, size)
 
 
+def fewest_vials(m, life, needs):
+    """The fewest vials that would do: for each dose, every open vial and a new one are tried."""
+    days = [day for day, need in enumerate(needs) for _ in range(need)]
+
+    @lru_cache(maxsize=None)
+    def best(at, opened):
+        if at == len(days):
+            return 0
+        day = days[at]
+        usable = tuple((last, left) for last, left in opened if left and last >= day)
+        fewest = 1 + best(at + 1, tuple(sorted(usable + ((day + life - 1, m - 1),))))
+        for i, (last, left) in enumerate(usable):
+            rest = usable[:i] + ((last, left - 1),) + usable[i + 1:]
+            fewest = min(fewest, best(at + 1, tuple(sorted(rest))))
+        return fewest
+
+    return best(0, ())
+
+
+def opened_vials(m, life, needs):
+    """The document's words on vials, dose by dose: the day on which each is opened."""
+    opened = []
+    for day, need in enumerate(needs):
+        for _ in range(need):
+            usable = [vial for vial in opened if vial["left"] and vial["day"] <= day < vial["day"] + life]
+            if usable:
+                vial = min(usable, key=lambda each: each["day"] + life - 1)
+            else:
+                vial = {"day": day, "left": m}
+                opened.append(vial)
+            vial["left"] -= 1
+    return [vial["day"] for vial in opened]
+
+
 class Laboratory:
-    """The nine calls, told by their names, in the plainest way."""
+    """The seventeen calls, told by their names, in the plainest way."""
 
     def __init__(self):
         self.clear()
 
     def clear(self):
+        self.day = 0
         self.lots = []
+        self.left = []
         self.demands = {}
         self.told_demands = 0
+        self.uses = []
+        self.thrown = 0
+        self.called_back = 0
         return [0]
 
     def of(self, article):
-        lots = {i: each[1:] for i, each in enumerate(self.lots) if each[0] == article}
+        lots = {i: (*each[1:3], self.left[i]) for i, each in enumerate(self.lots) if each[0] == article}
         demands = {k: each[1:] for k, each in self.demands.items() if each[0] == article}
         return lots, demands
 
@@ -121,7 +160,10 @@ class Laboratory:
             return [-1]
         if len(self.lots) >= 40:
             return [-2]
+        if last < self.day:
+            return [-3]
         self.lots.append((article, comes, last, doses))
+        self.left.append(doses)
         return [len(self.lots) - 1]
 
     def demand(self, article, day, doses):
@@ -129,6 +171,8 @@ class Laboratory:
             return [-1]
         if len(self.demands) >= 40:
             return [-2]
+        if day < self.day:
+            return [-3]
         self.told_demands += 1
         self.demands[self.told_demands] = (article, day, doses)
         return [self.told_demands, lack(*self.of(article))]
@@ -145,16 +189,20 @@ class Laboratory:
         shares = plan(lots, demands)
         told = [len(shares), sum(sum(share[2].values()) for share in shares)]
         for number, lacks, taken in shares:
-            told += [number, lacks, len(taken)]
-            for pair in taken.items():
-                told += pair
+            told += [number, lacks, *self.tell(taken)]
+        return told
+
+    def tell(self, taken):
+        told = [len(taken)]
+        for pair in taken.items():
+            told += pair
         return told
 
     def told(self, i):
         if i not in range(len(self.lots)):
             return [-1]
-        article, comes, last, doses = self.lots[i]
-        return [article, comes, last, doses, doses]
+        article, comes, last, had = self.lots[i]
+        return [article, comes, last, self.left[i], had]
 
     def tight(self, article):
         if article not in range(1, 9):
@@ -165,12 +213,97 @@ class Laboratory:
     def bears(self, article, day, doses):
         if article not in range(1, 9) or day not in range(401) or doses not in range(1, 1001):
             return [-1]
+        if day < self.day:
+            return [-3]
         return [int(bears(*self.of(article), day, doses))]
 
     def spare(self, article, day):
         if article not in range(1, 9) or day not in range(401):
             return [-1]
+        if day < self.day:
+            return [-3]
         return [spare(*self.of(article), day)]
+
+    def take(self, k):
+        if k not in self.demands:
+            return [-4]
+        article, day, doses = self.demands[k]
+        if day != self.day:
+            return [-5]
+        lots, demands = self.of(article)
+        ((number, lacks, taken),) = plan(lots, {k: (day, doses)})
+        if lacks:
+            return [-7]
+        self.demands.pop(k)
+        return self.keep_use(taken)
+
+    def use(self, article, doses):
+        if article not in range(1, 9) or doses not in range(1, 1001):
+            return [-1]
+        lots, demands = self.of(article)
+        ((number, lacks, taken),) = plan(lots, {0: (self.day, doses)})
+        if lacks:
+            return [-7]
+        rest = {i: (comes, last, left - taken.get(i, 0)) for i, (comes, last, left) in lots.items()}
+        if lack(rest, demands) > lack(lots, demands):
+            return [-9]
+        return self.keep_use(taken)
+
+    def keep_use(self, taken):
+        for i, doses in taken.items():
+            self.left[i] -= doses
+        self.uses.append((self.day, taken))
+        return self.tell(taken)
+
+    def today(self, day):
+        if day not in range(self.day, 401):
+            return [-1]
+        self.day = day
+        thrown = 0
+        for i, lot in enumerate(self.lots):
+            if lot[2] < day:
+                thrown += self.left[i]
+                self.left[i] = 0
+        self.thrown += thrown
+        kept = {k: each for k, each in self.demands.items() if each[1] >= day}
+        gone = len(self.demands) - len(kept)
+        self.demands = kept
+        return [thrown, gone]
+
+    def withdraw(self, i):
+        if i not in range(len(self.lots)):
+            return [-1]
+        doses = self.left[i]
+        self.left[i] = 0
+        self.called_back += doses
+        return [doses, lack(*self.of(self.lots[i][0]))]
+
+    def used_from(self, i):
+        if i not in range(len(self.lots)):
+            return [-1]
+        found = [[number, day, taken[i]] for number, (day, taken) in enumerate(self.uses) if i in taken]
+        return [len(found), *(each for use in found for each in use)]
+
+    def waste(self, article):
+        if article not in range(1, 9):
+            return [-1]
+        lots, demands = self.of(article)
+        rest = {i: lot[2] for i, lot in lots.items()}
+        for number, lacks, taken in plan(lots, demands):
+            for i, doses in taken.items():
+                rest[i] -= doses
+        return [sum(rest.values())]
+
+    def vials(self, m, life, length, *needs):
+        if m not in range(1, 101) or life not in range(1, 61) or length > 40:
+            return [-1]
+        if any(need not in range(101) for need in needs):
+            return [-1]
+        days = opened_vials(m, life, needs)
+        return [len(days), *days]
+
+    def counts(self):
+        return [self.day, len(self.lots), len(self.demands), len(self.uses), self.thrown, self.called_back]
 
     def ask(self, calls):
         return [getattr(self, call[0])(*call[1:]) for call in calls]

@@ -45,6 +45,52 @@ class Ordinary(unittest.TestCase):
             2, 0, 0,
         ])
 
+    def test_whole_answer_list_of_the_calls_that_use_and_count(self):
+        given = [
+            1, 1, 0, 2, 5,
+            1, 1, 1, 6, 4,
+            1, 2, 0, 9, 3,
+            2, 1, 0, 2,
+            2, 1, 4, 3,
+            14, 1,
+            9, 1,
+            10, 1, 2,
+            11, 1,
+            10, 1, 3,
+            10, 1, 2,
+            13, 0,
+            11, 3,
+            16,
+            12, 1,
+            14, 1,
+            13, 1,
+            15, 2, 2, 3, 1, 0, 2,
+            16,
+            5, 1,
+        ]
+        self.assertEqual(answers(given), [
+            1, 0,
+            1, 1,
+            1, 2,
+            2, 1, 0,
+            2, 2, 0,
+            1, 4,
+            3, 1, 0, 2,
+            3, 1, 0, 2,
+            2, 0, 0,
+            1, -9,
+            5, 2, 0, 1, 1, 1,
+            10, 3, 0, 0, 2, 1, 0, 2, 2, 1, 1,
+            2, 0, 0,
+            6, 3, 3, 1, 3, 0, 0,
+            2, 3, 3,
+            1, 0,
+            4, 1, 2, 1, 1,
+            3, 2, 0, 2,
+            6, 3, 3, 1, 3, 0, 3,
+            5, 1, 1, 6, 0, 4,
+        ])
+
     def test_every_call_may_come_first(self):
         self.assertEqual(answers([0]), [1, 0])
         self.assertEqual(answers([1, 3, 4, 4, 9]), [1, 0])
@@ -55,6 +101,14 @@ class Ordinary(unittest.TestCase):
         self.assertEqual(answers([6, 3]), [3, 0, 0, 0])
         self.assertEqual(answers([7, 3, 4, 1]), [1, 0])
         self.assertEqual(answers([8, 3, 4]), [1, 0])
+        self.assertEqual(answers([9, 1]), [1, -4])
+        self.assertEqual(answers([10, 3, 1]), [1, -7])
+        self.assertEqual(answers([11, 7]), [2, 0, 0])
+        self.assertEqual(answers([12, 0]), [1, -1])
+        self.assertEqual(answers([13, 0]), [1, -1])
+        self.assertEqual(answers([14, 3]), [1, 0])
+        self.assertEqual(answers([15, 4, 2, 3, 3, 2, 0]), [3, 2, 0, 1])
+        self.assertEqual(answers([16]), [6, 0, 0, 0, 0, 0, 0])
 
     def test_lots_are_numbered_from_0_over_all_articles(self):
         calls = [("lot", 2, 0, 3, 7), ("lot", 5, 1, 1, 8), ("lot", 2, 400, 400, 1000)]
@@ -125,8 +179,11 @@ class Edges(unittest.TestCase):
 
     def test_articles(self):
         calls = [("lot", 1, 0, 0, 1), ("demand", 1, 0, 1), ("plan", 1), ("tight", 1)]
-        for call in calls + [("bears", 1, 0, 1), ("spare", 1, 0)]:
+        for call in calls + [("bears", 1, 0, 1), ("spare", 1, 0), ("waste", 1)]:
             self.check([], call, 1, ARTICLES, lambda answer: answer[0] >= 0)
+        before = [("lot", article, 0, 0, 1) for article in range(1, 9)]
+        self.check(before, ("use", 1, 1), 1, ARTICLES, lambda answer: answer[0] == 1)
+        self.check(before, ("waste", 1), 1, ARTICLES, lambda answer: answer == [1])
 
     def test_days(self):
         for call in (("demand", 1, 0, 1), ("bears", 1, 0, 1), ("spare", 1, 0)):
@@ -135,6 +192,10 @@ class Edges(unittest.TestCase):
     def test_doses(self):
         for call in (("lot", 1, 0, 0, 1), ("demand", 1, 0, 1), ("bears", 1, 0, 1)):
             self.check([], call, len(call) - 1, DOSES, lambda answer: answer[0] >= 0)
+        self.check([("lot", 1, 0, 0, 1000)], ("use", 1, 1), 2, DOSES, lambda answer: answer[:2] == [1, 0])
+
+    def test_the_day_of_today(self):
+        self.check([], ("today", 0), 1, DAYS, lambda answer: answer == [0, 0])
 
     def test_the_day_on_which_a_lot_comes(self):
         self.check([], ("lot", 1, 0, 400, 1), 2, DAYS, lambda answer: answer == [0])
@@ -152,6 +213,8 @@ class Edges(unittest.TestCase):
             before = [("lot", 1, 0, 0, 1)] * lots
             edges = {-1: False, 0: True, lots - 1: True, lots: False, -lots: False, LEAST: False, GREATEST: False}
             self.check(before, ("told", 0), 1, edges, lambda answer: answer == [1, 0, 0, 1, 1])
+            self.check(before, ("withdraw", 0), 1, edges, lambda answer: answer == [1, 0])
+            self.check(before, ("used_from", 0), 1, edges, lambda answer: answer == [0])
 
     def test_the_number_of_a_demand_is_any(self):
         before = [("demand", 1, 0, 1), ("demand", 1, 0, 2)]
@@ -196,8 +259,11 @@ class Refusals(unittest.TestCase):
         wrong = [("lot", 0, 0, 9, 3), ("lot", 1, 5, 4, 3), ("lot", 1, 0, 401, 3), ("lot", 1, 0, 9, 1001)]
         wrong += [("demand", 9, 0, 1), ("demand", 1, -1, 1), ("demand", 1, 0, 0), ("cancel", 0), ("cancel", 4)]
         wrong += [("plan", 0), ("told", 2), ("told", -1), ("tight", 9), ("bears", 1, 401, 1), ("bears", 1, 0, 0)]
-        wrong += [("spare", 0, 0), ("spare", 1, 401)]
-        seen = view(2) + [("lot", 3, 0, 0, 1), ("demand", 3, 0, 1)]
+        wrong += [("spare", 0, 0), ("spare", 1, 401), ("take", 0), ("take", 1), ("use", 0, 1), ("use", 1, 1001)]
+        wrong += [("use", 1, 4), ("use", 1, 1), ("use", 2, 1), ("today", -1), ("today", 401), ("withdraw", 2)]
+        wrong += [("withdraw", -1), ("used_from", 2), ("waste", 0), ("vials", 0, 1, 0), ("vials", 1, 1, 1, 101)]
+        seen = view(2) + [("lot", 3, 0, 0, 1), ("demand", 3, 0, 1), ("use", 1, 1), ("take", 4)]
+        seen += [("today", 2), ("take", 3), ("take", 1), ("withdraw", 1), ("cancel", 2)] + view(3)
         expected = ask(stock + seen)[len(stock):]
         for call in wrong:
             with self.subTest(call=call):

@@ -117,6 +117,27 @@ class Parts(unittest.TestCase):
                     self.assertTrue(node.lineno == 1 and isinstance(node, ast.Expr), place)
             self.assertEqual(len(bound), len(set(bound)), path.name)
 
+    def test_each_name_is_drawn_from_the_file_that_defines_it(self):
+        defined = {}
+        for path, tree in parsed():
+            names = [node.name for node in tree.body if isinstance(node, (ast.FunctionDef, ast.ClassDef))]
+            names += [node.targets[0].id for node in tree.body if isinstance(node, ast.Assign)]
+            defined["reagentstock." + path.stem] = names
+        for path, tree in parsed():
+            for node in parts(tree, ast.ImportFrom):
+                for each in node.names:
+                    self.assertIn(each.name, defined[node.module], f"{path.name}:{node.lineno}")
+                    self.assertIsNone(each.asname, f"{path.name}:{node.lineno}")
+
+    def test_no_two_files_draw_from_one_another(self):
+        drawn = {}
+        for path, tree in parsed():
+            drawn["reagentstock." + path.stem] = {node.module for node in parts(tree, ast.ImportFrom)}
+        while drawn:
+            free = [name for name, modules in drawn.items() if not modules & set(drawn)]
+            self.assertNotEqual(free, [], drawn)
+            drawn = {name: modules for name, modules in drawn.items() if name not in free}
+
     def test_functions(self):
         for path, tree in parsed():
             for node in parts(tree, ast.FunctionDef):
